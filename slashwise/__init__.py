@@ -1,0 +1,1 @@
+"""Slashwise: sentences read by forms that lean left and right."""

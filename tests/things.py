@@ -1,0 +1,45 @@
+"""Things of every sort, for the points that speak of anything."""
+
+
+class Agreeable:
+    """Says of everything that it is equal to it."""
+
+    def __eq__(self, other):
+        return True
+
+    def __hash__(self):
+        return 0
+
+
+class Quarrelsome:
+    """Can't be compared, measured, walked or asked for its truth."""
+
+    def __eq__(self, other):
+        raise RuntimeError("compared")
+
+    def __len__(self):
+        raise RuntimeError("measured")
+
+    def __iter__(self):
+        raise RuntimeError("walked")
+
+    def __bool__(self):
+        raise RuntimeError("asked")
+
+    __hash__ = None
+
+
+def no_texts():
+    """Things that are no texts and no tuples of texts that would be forms."""
+    return [
+        None, True, False, 0, 1, -7, 10 ** 40, b"", b"s", bytearray(b"s"), [], ["s"], (), ("s",), {}, {"s": "s"},
+        set(), frozenset(["s"]), object(), Agreeable(), Quarrelsome(), len, str, range(3), ["basic", "s"],
+    ]
+
+
+def nested(depth, inner, wrap):
+    """The inner thing, wrapped this often."""
+    thing = inner
+    for k in range(depth):
+        thing = wrap(thing)
+    return thing
