@@ -38,6 +38,20 @@ def size_of(term):
     return len(parts_and_fns(term))
 
 
+def depth_of(term):
+    """How deep a term is."""
+    # Walked from its end, the list tells the depths of what is in a part ahead of that part.
+    told = []
+    for part, fns in reversed(parts_and_fns(term)):
+        if part[0] == "of":
+            told.append(1 + max(told.pop(), told.pop()))
+        elif part[0] == "fn":
+            told.append(1 + told.pop())
+        else:
+            told.append(0)
+    return told[0]
+
+
 def is_closed(term):
     """Whether each bound one belongs to a fn of the term."""
     return None not in owners_in(term)

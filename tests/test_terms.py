@@ -2,32 +2,13 @@ import copy
 import unittest
 
 from slashwise.errors import NoKind
-from slashwise.forms import read_form
 from slashwise.kinds import read_kind, show_kind
-from slashwise.terms import is_closed, is_sparing, kind_of, size_of
-from tests.things import nested
+from slashwise.terms import depth_of, is_closed, is_sparing, kind_of, size_of
+from tests.things import bound, fn, leaf, nested, of
 
 MARY = ("name", "mary")
 LOVE = ("name", "love")
 NAMES = [("mary", "n"), ("love", ("n", ("n", "s"))), ("some", (("n", "s"), "s")), ("in", "ns")]
-
-
-def fn(kind, body):
-    return ("fn", read_kind(kind), body)
-
-
-def of(f, *given):
-    for a in given:
-        f = ("of", f, a)
-    return f
-
-
-def bound(k):
-    return ("bound", k)
-
-
-def leaf(place, form):
-    return ("leaf", place, read_form(form))
 
 
 SWAP = fn("n", fn("n", of(LOVE, bound(0), bound(1))))
@@ -52,6 +33,26 @@ class SizeOfTest(unittest.TestCase):
         self.assertEqual(size_of(nested(150, MARY, lambda term: fn("n", term))), 151)
         self.assertEqual(size_of(nested(199, MARY, lambda term: of(term, MARY))), 399)
         self.assertEqual(size_of(nested(199, MARY, lambda term: of(MARY, term))), 399)
+
+
+class DepthOfTest(unittest.TestCase):
+    def test_nothing_in_it(self):
+        for term in [MARY, bound(3), leaf(0, "s\\n/(n/n)")]:
+            self.assertEqual(depth_of(term), 0)
+
+    def test_one_deeper_than_the_deeper_one(self):
+        self.assertEqual(depth_of(fn("(n>s)", bound(0))), 1)
+        self.assertEqual(depth_of(of(MARY, MARY)), 1)
+        self.assertEqual(depth_of(of(MARY, MARY, MARY)), 2)
+        self.assertEqual(depth_of(of(MARY, of(MARY, MARY))), 2)
+        self.assertEqual(depth_of(SWAP), 4)
+        self.assertEqual(depth_of(of(MARY, SWAP)), 5)
+        self.assertEqual(depth_of(of(SWAP, MARY)), 5)
+
+    def test_deep_terms(self):
+        self.assertEqual(depth_of(nested(300, MARY, lambda term: fn("n", term))), 300)
+        self.assertEqual(depth_of(nested(199, MARY, lambda term: of(term, MARY))), 199)
+        self.assertEqual(depth_of(nested(199, MARY, lambda term: of(MARY, term))), 199)
 
 
 class IsClosedTest(unittest.TestCase):

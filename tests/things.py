@@ -1,4 +1,7 @@
-"""Things of every sort, for the points that speak of anything."""
+"""Things of every sort, for the points that speak of anything, and what the tests of terms build terms with."""
+
+from slashwise.forms import read_form
+from slashwise.kinds import read_kind
 
 
 class Agreeable:
@@ -43,3 +46,21 @@ def nested(depth, inner, wrap):
     for k in range(depth):
         thing = wrap(thing)
     return thing
+
+
+def fn(kind, body):
+    return ("fn", read_kind(kind), body)
+
+
+def of(f, *given):
+    for a in given:
+        f = ("of", f, a)
+    return f
+
+
+def bound(k):
+    return ("bound", k)
+
+
+def leaf(place, form):
+    return ("leaf", place, read_form(form))
