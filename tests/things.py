@@ -1,5 +1,6 @@
 """Things of every sort, for the points that speak of anything, and what the tests of terms build terms with."""
 
+from slashwise.errors import SlashError
 from slashwise.forms import read_form
 from slashwise.kinds import read_kind
 
@@ -64,3 +65,12 @@ def bound(k):
 
 def leaf(place, form):
     return ("leaf", place, read_form(form))
+
+
+def refusal(deed, *given):
+    """The class and the fields of what a deed is refused with, or None where it is not refused."""
+    try:
+        deed(*given)
+    except SlashError as error:
+        return (type(error), vars(error))
+    return None
