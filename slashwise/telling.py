@@ -44,7 +44,11 @@ def numbered(tally, reading):
 
 def all_readings(book, words, form, most=200):
     """All readings to a form by their numbers, or NoWord, TooMany."""
-    tally = tally_of(book, words)
+    return listed(tally_of(book, words), form, most)
+
+
+def listed(tally, form, most):
+    """All readings of a tally to a form by their numbers, or TooMany."""
     count = tally.many_of_whole(form)
     if count > most:
         raise TooMany(count, most)

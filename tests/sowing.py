@@ -96,3 +96,33 @@ def grouped(pairs):
     for form, reading in pairs:
         groups.setdefault(show_form(form), []).append(reading)
     return groups
+
+
+def one_turns(reading):
+    """All that comes of a reading by one turn, at whichever node."""
+    if reading[0] == "word":
+        return []
+    sign, left, right = reading
+    found = []
+    if sign == ">" and left[0] == ">>":
+        found.append((">", left[1], (">", left[2], right)))
+    if sign == ">>" and left[0] == ">>":
+        found.append((">>", left[1], (">>", left[2], right)))
+    if sign == "<" and right[0] == "<<":
+        found.append(("<", ("<", left, right[1]), right[2]))
+    if sign == "<<" and right[0] == "<<":
+        found.append(("<<", ("<<", left, right[1]), right[2]))
+    found += [(sign, other, right) for other in one_turns(left)]
+    return found + [(sign, left, other) for other in one_turns(right)]
+
+
+def many_words(reading):
+    return 1 if reading[0] == "word" else many_words(reading[1]) + many_words(reading[2])
+
+
+def turning_sum(reading):
+    """The sum that each turn lessens (25)."""
+    if reading[0] == "word":
+        return 0
+    sign, left, right = reading
+    return many_words(left if sign in [">", ">>"] else right) + turning_sum(left) + turning_sum(right)
