@@ -1,12 +1,41 @@
-"""Books and sentences by chance, always the same ones, and readings told once more in the document's own words."""
+"""Books and sentences for the tests of readings: a chain, and others by chance, always the same ones.
+
+And readings and their turns, told once more in the document's own words.
+"""
 
 import random
 
 from slashwise.booktexts import read_book, show_book
-from slashwise.forms import kind_of_form, show_form
+from slashwise.forms import kind_of_form, read_form, show_form
 
 SIGNS = [">", "<", ">>", "<<"]
 LETTERS = "abcdefghijklmnopqrst"
+
+N = read_form("n")
+CHAIN = read_book("basics n s\nname f (n>n)\nname m n\nword f n/n f\nword g n\\n f\nword m n m")
+# Eight words of this book have just two hundred readings to n: so as many as where a most is left out.
+MANY = read_book("\n".join([
+    "basics n", "name a (n>(n>n))", "name b n", "name c (n>n)", "word a n/n/n a", "word b n b", "word b n/n/n a",
+    "word b n\\n c",
+]))
+TWO_HUNDRED = ("b", "a", "b", "b", "b", "b", "b", "b")
+SIXTY = 10 ** 60 - 1
+
+
+def word(place, form):
+    return ("word", place, read_form(form))
+
+
+def f(place):
+    return word(place, "n/n")
+
+
+def g(place):
+    return word(place, "n\\n")
+
+
+def m(place):
+    return word(place, "n")
 
 
 class Sower:

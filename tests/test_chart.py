@@ -5,7 +5,7 @@ from slashwise.booktexts import read_book
 from slashwise.chart import chart, counts
 from slashwise.errors import NoWord
 from slashwise.forms import is_form, parts_of, read_form, show_form
-from tests.sowing import SIGNS, Sower, grouped, made_by_words, readings_by_words
+from tests.sowing import CHAIN, SIGNS, Sower, grouped, made_by_words, readings_by_words
 from tests.things import refusal
 
 BOOK = read_book("\n".join([
@@ -27,7 +27,6 @@ BOOK = read_book("\n".join([
     "word saw n mary",
     "word saw s\\n sleep",
 ]))
-CHAIN = read_book("basics n\nname f (n>n)\nname m n\nword f n/n f\nword g n\\n f\nword m n m")
 CATALAN = [1, 1, 2, 5, 14, 42, 132, 429, 1430, 4862]
 
 
@@ -170,7 +169,7 @@ class ChartTest(unittest.TestCase):
             self.assertEqual(refusal(counts, BOOK, words), expected)
 
     def test_lists_are_the_asker_s_own(self):
-        words = ("old", "old", "mary", "there")
+        words = ("old", "old", "mary", "there", "saw")
         before = copy.deepcopy((BOOK, words))
         first = chart(BOOK, words)
         kept = copy.deepcopy(first)

@@ -68,6 +68,41 @@ class LanguageTest(unittest.TestCase):
                 self.assertTrue(node.module.startswith("slashwise."), path)
                 self.assertNotIn("*", [name.name for name in node.names])
 
+    def test_no_two_files_draw_from_one_another(self):
+        drawn = {}
+        for path, node in self.walked():
+            if isinstance(node, ast.ImportFrom):
+                drawn.setdefault("slashwise." + path.stem, set()).add(node.module)
+        for name in drawn:
+            reached = set()
+            todo = [name]
+            while todo:
+                for module in drawn.get(todo.pop(), set()) - reached:
+                    reached.add(module)
+                    todo.append(module)
+            self.assertNotIn(name, reached)
+
+    def test_no_local_is_called_like_an_import_or_a_class_of_its_file(self):
+        for path in package_files():
+            tree = ast.parse(path.read_text())
+            taken = {name.name for node in tree.body if isinstance(node, ast.ImportFrom) for name in node.names}
+            taken |= {node.name for node in tree.body if isinstance(node, ast.ClassDef)}
+            for node in ast.walk(tree):
+                if isinstance(node, ast.Name) and isinstance(node.ctx, ast.Store):
+                    self.assertNotIn(node.id, taken, path)
+                if isinstance(node, ast.arg):
+                    self.assertNotIn(node.arg, taken, path)
+
+    def test_no_name_is_a_method_and_a_value(self):
+        methods = set()
+        values = set()
+        for path, node in self.walked():
+            if isinstance(node, ast.ClassDef):
+                methods |= {part.name for part in node.body if isinstance(part, ast.FunctionDef)}
+            if isinstance(node, ast.Attribute) and isinstance(node.ctx, ast.Store):
+                values.add(node.attr)
+        self.assertEqual(methods & values, set())
+
     def test_plain_names_and_only_the_listed_ones_of_python(self):
         own = set(dir(__builtins__) if not isinstance(__builtins__, dict) else __builtins__)
         for path, node in self.walked():

@@ -10,8 +10,8 @@ from slashwise.steps import done_at, is_plain_term, places, plain_of, steps_of
 from slashwise.telling import all_readings, how_many, reading_at
 from slashwise.terms import is_closed, is_sparing, kind_of, size_of
 from slashwise.termtexts import read_term
-from tests.sowing import Sower, readings_by_words
-from tests.things import bound, of
+from tests.sowing import Sower, readings_by_words, word
+from tests.things import bound, leaf, of
 
 BOOK = read_book("\n".join([
     "basics s n pp",
@@ -33,14 +33,6 @@ LOVES = read_term("[n][n]love(#0)(#1)")
 OLD = read_term("old")
 THERE = read_term("[n]old(#0)")
 LATE = read_term("[s]#0")
-
-
-def word(place, form):
-    return ("word", place, read_form(form))
-
-
-def leaf(place, form):
-    return ("leaf", place, read_form(form))
 
 
 class MeaningTest(unittest.TestCase):

@@ -1,7 +1,6 @@
 import copy
 import unittest
 
-from slashwise.booktexts import read_book
 from slashwise.chart import chart
 from slashwise.errors import NoNumber, NoWord, TooMany
 from slashwise.forms import read_form
@@ -11,29 +10,10 @@ from slashwise.readings import formed
 from slashwise.steps import plain_of
 from slashwise.telling import all_readings, how_many, number_of, reading_at
 from slashwise.turning import is_plain, turns
-from tests.sowing import Sower, grouped, one_turns, readings_by_words
+from tests.sowing import (
+    CHAIN, MANY, N, SIXTY, TWO_HUNDRED, Sower, f, g, grouped, m, one_turns, readings_by_words,
+)
 from tests.things import refusal
-
-CHAIN = read_book("basics n s\nname f (n>n)\nname m n\nword f n/n f\nword g n\\n f\nword m n m")
-MANY = read_book("\n".join([
-    "basics n", "name a (n>(n>n))", "name b n", "name c (n>n)", "word a n/n/n a", "word b n b", "word b n/n/n a",
-    "word b n\\n c",
-]))
-N = read_form("n")
-SIXTY = 10 ** 60 - 1
-
-
-def f(place):
-    return ("word", place, read_form("n/n"))
-
-
-def g(place):
-    return ("word", place, read_form("n\\n"))
-
-
-def m(place):
-    return ("word", place, N)
-
 
 FFMG = ("f", "f", "m", "g")
 # The plain ones of this sentence, each with the numbers of all that turn to it.
@@ -126,10 +106,9 @@ class PutTogetherTest(unittest.TestCase):
 
     def test_a_most_that_is_left_out(self):
         self.assertEqual(refusal(put_together, CHAIN, ("f",) * 7 + ("m",), N), (TooMany, {"count": 429, "most": 200}))
-        words = ("b", "a", "b", "b", "b", "b", "b", "b")
-        told = put_together(MANY, words, N)
+        told = put_together(MANY, TWO_HUNDRED, N)
         self.assertEqual(sorted(number for plain, numbers in told for number in numbers), list(range(200)))
-        self.assertEqual(refusal(put_together, MANY, words, N, 199), (TooMany, {"count": 200, "most": 199}))
+        self.assertEqual(refusal(put_together, MANY, TWO_HUNDRED, N, 199), (TooMany, {"count": 200, "most": 199}))
 
     def test_hundreds(self):
         words = ("f",) * 4 + ("m",) + ("g",) * 3

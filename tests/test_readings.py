@@ -5,7 +5,7 @@ from slashwise.booktexts import read_book
 from slashwise.errors import NoReading
 from slashwise.forms import read_form, show_form
 from slashwise.readings import formed
-from tests.sowing import Sower, readings_by_words
+from tests.sowing import Sower, readings_by_words, word
 from tests.things import Agreeable, Quarrelsome, nested, no_texts, refusal
 
 BOOK = read_book("\n".join([
@@ -25,12 +25,6 @@ BOOK = read_book("\n".join([
     "word saw n mary",
 ]))
 WORDS = ("mary", "loves", "old", "mary")
-
-
-def word(place, form):
-    return ("word", place, read_form(form))
-
-
 MARY = word(0, "n")
 LOVES = word(1, "s\\n/n")
 OLD = word(2, "n/n")
@@ -104,8 +98,8 @@ class FormedTest(unittest.TestCase):
         self.no(("word", 1, ("/", ["\\", ("basic", "s"), ("basic", "n")], ("basic", "n"))))
 
     def test_other_signs(self):
-        for sign in ["", "<<", ">", ">>", "=", "/", "\\", "<>", " <", "< ", "Word", "words", None, 0, True, b"<", ("<",),
-                     ["<"], Agreeable(), Quarrelsome()]:
+        for sign in ["", "<<", ">", ">>", "=", "/", "\\", "<>", " <", "< ", "Word", "words", None, 0, True, b"<",
+                     ("<",), ["<"], Agreeable(), Quarrelsome()]:
             self.no((sign, MARY, WHOLE[2]))
         for sign in ["Word", "words", "", "leaf", "name", "basic", None, 0, b"word", Agreeable(), Quarrelsome()]:
             self.no((sign, 0, read_form("n")))

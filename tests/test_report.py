@@ -162,7 +162,8 @@ class ReportTest(unittest.TestCase):
         term = "f(#0)"
         for k in range(8):
             term = f"([n]#0)({term})"
-        text = rows("basics n", "name f (n>n)", "name m n", f"word f n/n [n]{term}", f"word g n\\n [n]{term}", "word m n m")
+        text = rows("basics n", "name f (n>n)", "name m n", f"word f n/n [n]{term}", f"word g n\\n [n]{term}",
+                    "word m n m")
         self.assertEqual(report(text, "f f f f f m g g g g", "n", 200), rows(
             "readings 4862 plain 126", " ".join(map(str, range(126))) + ": " + "f(" * 9 + "m" + ")" * 9))
 

@@ -7,25 +7,10 @@ from slashwise.errors import NoNumber, NoReading, NoWord, TooMany
 from slashwise.forms import read_form, show_form
 from slashwise.readings import formed
 from slashwise.telling import all_readings, how_many, number_of, reading_at
-from tests.sowing import Sower, grouped, readings_by_words
+from tests.sowing import CHAIN, MANY, N, SIXTY, TWO_HUNDRED, Sower, f, g, grouped, m, readings_by_words
 from tests.things import nested, no_texts, refusal
 
-CHAIN = read_book("basics n s\nname f (n>n)\nname m n\nword f n/n f\nword g n\\n f\nword m n m")
 BOTH = read_book("basics n\nname f (n>n)\nname m n\nword w n/n f\nword w n\\n f\nword w n m")
-N = read_form("n")
-SIXTY = 10 ** 60 - 1
-
-
-def f(place):
-    return ("word", place, read_form("n/n"))
-
-
-def g(place):
-    return ("word", place, read_form("n\\n"))
-
-
-def m(place):
-    return ("word", place, N)
 
 
 class HowManyTest(unittest.TestCase):
@@ -156,12 +141,9 @@ class AllReadingsTest(unittest.TestCase):
         self.assertEqual(len(all_readings(CHAIN, ("f",) * 7 + ("m",), N, 429)), 429)
 
     def test_just_as_many_as_the_most_that_is_left_out(self):
-        book = read_book("\n".join(["basics n", "name a (n>(n>n))", "name b n", "name c (n>n)", "word a n/n/n a",
-                                    "word b n b", "word b n/n/n a", "word b n\\n c"]))
-        words = ("b", "a", "b", "b", "b", "b", "b", "b")
-        self.assertEqual(how_many(book, words, N), 200)
-        self.assertEqual(len(set(all_readings(book, words, N))), 200)
-        self.assertEqual(refusal(all_readings, book, words, N, 199), (TooMany, {"count": 200, "most": 199}))
+        self.assertEqual(how_many(MANY, TWO_HUNDRED, N), 200)
+        self.assertEqual(len(set(all_readings(MANY, TWO_HUNDRED, N))), 200)
+        self.assertEqual(refusal(all_readings, MANY, TWO_HUNDRED, N, 199), (TooMany, {"count": 200, "most": 199}))
 
     def test_none(self):
         for words, form in [((), "n"), (("m", "m"), "n"), (("f", "m"), "s")]:

@@ -1,30 +1,12 @@
 import copy
 import unittest
 
-from slashwise.booktexts import read_book
-from slashwise.forms import read_form
 from slashwise.meanings import unknown
 from slashwise.readings import formed
 from slashwise.steps import plain_of
 from slashwise.telling import reading_at
 from slashwise.turning import is_plain, turns
-from tests.sowing import Sower, one_turns, readings_by_words, turning_sum
-
-CHAIN = read_book("basics n\nname f (n>n)\nname m n\nword f n/n f\nword g n\\n f\nword m n m")
-N = read_form("n")
-
-
-def f(place):
-    return ("word", place, read_form("n/n"))
-
-
-def g(place):
-    return ("word", place, read_form("n\\n"))
-
-
-def m(place):
-    return ("word", place, N)
-
+from tests.sowing import CHAIN, N, Sower, f, g, m, one_turns, readings_by_words, turning_sum, word
 
 # A reading that may be turned at its top, and what it becomes.
 TURNED = [
@@ -54,20 +36,20 @@ class IsPlainTest(unittest.TestCase):
         for reading in [(">", f(0), inner), ("<", inner, g(4)), (">", f(0), ("<", inner, g(4))),
                         ("<", ("<", (">", f(0), inner), g(4)), g(5)),
                         (">", f(0), (">", f(1), ("<", m(2), ("<<", g(3), g(4))))),
-                        (">", (">", ("word", 0, read_form("n/n/n")), ("<", m(1), ("<<", g(2), g(3)))), m(4))]:
+                        (">", (">", word(0, "n/n/n"), ("<", m(1), ("<<", g(2), g(3)))), m(4))]:
             self.assertIs(is_plain(reading), False, reading)
 
     def test_signs_of_another_rule_below_do_not_turn(self):
-        a = ("word", 0, read_form("n/n"))
+        a = word(0, "n/n")
         for reading in [
             # The sign >> at the right of a >, the sign << at the left of a <, and each below a sign of the other lean.
-            (">", ("word", 0, read_form("n/(n/n)")), (">>", f(1), f(2))),
-            ("<", ("<<", g(0), g(1)), ("word", 2, read_form("n\\(n\\n)"))),
-            (">", ("word", 0, read_form("n/(n\\n)")), ("<<", g(1), g(2))),
-            ("<", (">>", f(0), f(1)), ("word", 2, read_form("n\\(n/n)"))),
+            (">", word(0, "n/(n/n)"), (">>", f(1), f(2))),
+            ("<", ("<<", g(0), g(1)), word(2, "n\\(n\\n)")),
+            (">", word(0, "n/(n\\n)"), ("<<", g(1), g(2))),
+            ("<", (">>", f(0), f(1)), word(2, "n\\(n/n)")),
             (">>", a, (">>", f(1), f(2))),
             ("<<", ("<<", g(0), g(1)), g(2)),
-            (">>", ("word", 0, read_form("n/(n\\n)")), ("word", 1, read_form("n\\n/n"))),
+            (">>", word(0, "n/(n\\n)"), word(1, "n\\n/n")),
         ]:
             self.assertIs(is_plain(reading), True, reading)
             self.assertEqual(turns(reading), [reading])
